@@ -1,0 +1,1 @@
+"""Daytellings: tellings of who was where."""
