@@ -1,6 +1,6 @@
 """Towns, cases and tellings: what is one, the opposite of a telling, a case with other tellings."""
 
-from daytellings.errors import NoCase
+from daytellings.errors import NoCase, NoTelling
 
 MOST_PLACES = 5
 LONGEST_WAY = 4
@@ -90,6 +90,11 @@ def demand_case(thing):
 def is_telling(case, thing):
     demand_case(case)
     return fits_frame(case, thing)
+
+
+def demand_telling(case, thing):
+    if not fits_frame(case, thing):
+        raise NoTelling("this is no telling of the case")
 
 
 def opposite(telling):

@@ -1,6 +1,7 @@
 """How far places are, stands and their steps, days and worlds."""
 
 from daytellings.cases import demand_case, is_tuple_of, is_whole, is_whole_within
+from daytellings.errors import NoCase
 
 
 def lesser(known, ahead, takes):
@@ -58,9 +59,18 @@ def is_day(case, thing):
     return fits_day(case, thing)
 
 
+def fits_world(case, thing):
+    return is_tuple_of(thing, case[1]) and all([fits_day(case, day) for day in thing])
+
+
 def is_world(case, thing):
     demand_case(case)
-    return is_tuple_of(thing, case[1]) and all([fits_day(case, day) for day in thing])
+    return fits_world(case, thing)
+
+
+def demand_world(case, thing):
+    if not fits_world(case, thing):
+        raise NoCase("this is no world of the case")
 
 
 def place_of(stand):

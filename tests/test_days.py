@@ -5,7 +5,7 @@ import unittest
 
 from daytellings.days import is_day, is_world, places_at, steps
 from daytellings.errors import NoCase
-from things import CASE, NEVER_RIGHT, TELLINGS, TOWN, refusing, spoilt, with_other_lengths
+from things import CASE, NEVER_RIGHT, TELLINGS, TOWN, days_by_choosing, refusing, spoilt, with_other_lengths
 
 STAYING = ((2, 0),) * 7
 WALKING = ((0, 0), (2, 2), (2, 1), (2, 0), (1, 1), (1, 0), (0, 0))
@@ -49,25 +49,6 @@ class Steps(unittest.TestCase):
         self.assertEqual(steps((2, ((0, 1, 5),)), (0, 0)), [(0, 0), (1, 4)])
         self.assertEqual(steps((7, ((5, 6, 1),)), (6, 0)), [(5, 0), (6, 0)])
         self.assertEqual(steps(TOWN, (1, 5)), [(1, 4)])
-
-
-def days_by_choosing(town, last):
-    """All days, made by choosing at each place to stay or to go a whole way."""
-    between = [(one, other, takes) for one, other, takes in town[1]]
-    between += [(other, one, takes) for one, other, takes in town[1]]
-    open_days = [((place, 0),) for place in range(town[0])]
-    done = set()
-    while open_days:
-        day = open_days.pop()
-        if len(day) > last:
-            done.add(day[:last + 1])
-            continue
-        place = day[-1][0]
-        open_days.append(day + ((place, 0),))
-        for start, goal, takes in between:
-            if start == place:
-                open_days.append(day + tuple((goal, left) for left in reversed(range(takes))))
-    return done
 
 
 class IsDay(unittest.TestCase):

@@ -63,6 +63,27 @@ def top_names(tree):
     return names + [node.targets[0].id for node in tree.body if isinstance(node, ast.Assign)]
 
 
+WALKED = ("zip", "enumerate", "reversed", "range")
+WALKING = ("list", "tuple", "dict", "sorted", "sum", "any", "all", "enumerate", "zip")
+CHANGING = ("append", "clear", "extend", "insert", "pop", "remove", "reverse", "setdefault", "update")
+
+
+def called_name(call):
+    if isinstance(call.func, ast.Attribute):
+        return call.func.attr
+    return call.func.id if isinstance(call.func, ast.Name) else None
+
+
+def is_walked(node, above):
+    """Whether a call that gives something to walk stands where it is walked on the spot."""
+    if isinstance(above, (ast.For, ast.comprehension)):
+        return above.iter == node
+    if not isinstance(above, ast.Call) or not above.args or above.args[0] != node:
+        return False
+    called = called_name(above)
+    return called in WALKING or called == "join" or (called in ("min", "max") and len(above.args) == 1)
+
+
 class Form(unittest.TestCase):
     @classmethod
     def setUpClass(cls):
@@ -174,6 +195,83 @@ class Form(unittest.TestCase):
             if any(isinstance(sign, (ast.Is, ast.IsNot)) for sign in node.ops):
                 self.assertIsInstance(node.comparators[0], ast.Constant, spot)
                 self.assertIn(node.comparators[0].value, (None, True, False), spot)
+
+    def test_locals_are_called_like_no_import_and_no_class(self):
+        for name, tree in self.trees.items():
+            taken = [part.asname or part.name for node in tree.body if isinstance(node, ast.ImportFrom)
+                     for part in node.names]
+            taken += [node.name for node in tree.body if isinstance(node, ast.ClassDef)]
+            for node in ast.walk(tree):
+                if isinstance(node, ast.arg):
+                    self.assertNotIn(node.arg, taken, f"{name}:{node.lineno}")
+                elif isinstance(node, ast.Name) and isinstance(node.ctx, ast.Store):
+                    self.assertNotIn(node.id, taken, f"{name}:{node.lineno}")
+
+    def test_lists_and_dicts_of_a_file_hold_none_themselves(self):
+        for name, tree in self.trees.items():
+            for node in tree.body:
+                if isinstance(node, ast.Assign):
+                    inner = [part for part in ast.walk(node.value) if isinstance(part, (ast.List, ast.Dict))]
+                    self.assertLessEqual(len(inner), 1, f"{name}:{node.lineno}")
+
+    def test_walked_at_once(self):
+        for spot, node, above in self.calls_with_above():
+            called = called_name(node)
+            if called in WALKED or (called in ("items", "keys", "values") and isinstance(node.func, ast.Attribute)):
+                self.assertTrue(is_walked(node, above), spot)
+
+    def test_sets_are_neither_kept_nor_walked(self):
+        for spot, node, above in self.calls_with_above():
+            if called_name(node) in ("set", "frozenset"):
+                within = isinstance(above, ast.Call) and called_name(above) in ("sorted", "len") and not above.keywords
+                self.assertTrue(within or isinstance(above, (ast.Compare, ast.BinOp)), spot)
+        self.assertEqual([spot for spot, node in self.nodes(ast.Set)], [])
+
+    def calls_with_above(self):
+        for spot, above in self.nodes(ast.AST):
+            for node in ast.iter_child_nodes(above):
+                if isinstance(node, ast.Call):
+                    yield f"{spot}, {getattr(node, 'lineno', 0)}", node, above
+
+    def test_keywords_of_calls(self):
+        allowed = {"sorted": ("key", "reverse"), "min": ("key", "default"), "max": ("key", "default"),
+                   "sum": ("start",), "enumerate": ("start",), "zip": ("strict",)}
+        for spot, node in self.nodes(ast.Call):
+            for keyword in node.keywords:
+                if called_name(node) in ALLOWED_BUILTINS + ALLOWED_METHODS:
+                    self.assertIn(keyword.arg, allowed.get(called_name(node), ()), spot)
+
+    def test_own_functions_of_python_are_called_and_not_kept(self):
+        classes = ("int", "str", "bool", "list", "tuple", "dict")
+        for spot, above in self.nodes(ast.AST):
+            for node in ast.iter_child_nodes(above):
+                if isinstance(node, ast.Name) and node.id in ALLOWED_BUILTINS and node.id not in classes:
+                    called = isinstance(above, ast.Call) and above.func == node
+                    error = node.id.endswith(("Error", "Exception", "Iteration"))
+                    self.assertTrue(called or error or isinstance(above, ast.keyword), f"{spot}: {node.id}")
+
+    def test_raise_makes_its_error_on_the_spot(self):
+        for spot, node in self.nodes(ast.Raise):
+            self.assertIsInstance(node.exc, ast.Call, spot)
+        for spot, node in self.nodes(ast.ExceptHandler):
+            self.assertIsNotNone(node.type, spot)
+            self.assertNotIn("Exception", ast.unparse(node.type), spot)
+            self.assertNotIn("TypeError", ast.unparse(node.type), spot)
+
+    def test_powers_have_a_written_exponent(self):
+        for spot, node in self.nodes(ast.BinOp):
+            if isinstance(node.op, ast.Pow):
+                self.assertIsInstance(node.right, ast.Constant, spot)
+
+    def test_what_a_loop_walks_is_not_changed_in_it(self):
+        for spot, loop in self.nodes(ast.For):
+            walked = {ast.unparse(part) for part in ast.walk(loop.iter) if isinstance(part, (ast.Name, ast.Attribute))}
+            for node in (node for statement in loop.body for node in ast.walk(statement)):
+                method = isinstance(node, ast.Call) and isinstance(node.func, ast.Attribute)
+                if method and called_name(node) in CHANGING:
+                    self.assertNotIn(ast.unparse(node.func.value), walked, spot)
+                if isinstance(node, ast.Subscript) and isinstance(node.ctx, ast.Store):
+                    self.assertNotIn(ast.unparse(node.value), walked, spot)
 
     def test_plain_values(self):
         for spot, node in self.nodes(ast.Constant):

@@ -1,0 +1,127 @@
+"""[0.2] (a) to (e): what holds over all cases."""
+
+import random
+import unittest
+
+from daytellings.cases import with_tellings
+from daytellings.clashes import all_clashes, alone, is_clash, least_clash, most_true, tied
+from daytellings.days import is_world
+from daytellings.holding import all_true, is_true
+from daytellings.surely import could_be, must_be, needless, on_the_way, surely_at, verdict, where
+from daytellings.worlds import a_world, can_be, how_many, is_paper, paper
+from things import EDGE_CASES, random_case, random_cases, random_telling, true_worlds
+
+FULL_WAYS = tuple((one, other, 1 + (one * other) % 4) for one in range(5) for other in range(one + 1, 5))
+
+# Greater than one can go through: what holds over all cases holds here as well.
+GREAT_CASES = (
+    ((5, FULL_WAYS), 2, 9, (("met", 0, 1, 0, 9), ("seen", 0, 4, 0, 9), ("never", 1, 4, 0, 9), ("there", 1, 3, 2, 4))),
+    ((5, FULL_WAYS), 2, 6, (("met", 0, 1, 0, 6), ("there", 0, 4, 0, 3), ("never", 1, 4, 0, 6), ("apart", 0, 1, 4, 6))),
+    ((4, ((0, 1, 1), (1, 2, 1), (2, 3, 1))), 3, 5, (
+        ("there", 0, 0, 0, 0), ("there", 1, 3, 0, 0), ("met", 0, 1, 0, 2), ("met", 0, 2, 3, 5), ("met", 1, 2, 3, 5))),
+    ((4, ((0, 1, 1), (1, 2, 1), (2, 3, 1))), 3, 4, (
+        ("there", 0, 0, 0, 0), ("there", 1, 3, 0, 0), ("met", 0, 1, 0, 2), ("seen", 2, 3, 0, 4), ("seen", 2, 0, 0, 4))),
+)
+CASES = list(EDGE_CASES) + random_cases(61, 60) + random_cases(62, 20, persons=3, greatest_last=2) + list(GREAT_CASES)
+SMALL_CASES = CASES[:-len(GREAT_CASES)]
+
+
+class Whole(unittest.TestCase):
+    def test_a_a_world_or_a_paper_and_not_both(self):
+        for case in CASES:
+            world = a_world(case)
+            marks = paper(case)
+            self.assertIs(world is None, marks is not None, case)
+            self.assertIs(can_be(case), world is not None, case)
+            self.assertIs(how_many(case) > 0, world is not None, case)
+            if world is None:
+                self.assertIs(is_paper(case, marks), True, case)
+            else:
+                self.assertIs(is_world(case, world) and all_true(case, world), True, case)
+
+    def test_b_what_is_told_of_a_person(self):
+        for case in SMALL_CASES:
+            worlds = true_worlds(case)
+            for who in range(case[1]):
+                for moment in range(case[2] + 1):
+                    stands = [world[who][moment] for world in worlds]
+                    for place in range(case[0][0]):
+                        self.assertEqual(place in where(case, who, moment), (place, 0) in stands)
+                    self.assertEqual(on_the_way(case, who, moment), any(left for place, left in stands))
+                    surely = surely_at(case, who, moment)
+                    if surely is not None:
+                        self.assertEqual(set(stands), {(surely, 0)})
+
+    def test_b_where_and_surely_agree(self):
+        for case in CASES:
+            for moment in (0, case[2]):
+                at = where(case, 0, moment)
+                away = on_the_way(case, 0, moment)
+                self.assertEqual(bool(at or away), can_be(case), case)
+                self.assertEqual(surely_at(case, 0, moment), at[0] if len(at) == 1 and not away else None, case)
+
+    def test_c_a_telling_more(self):
+        source = random.Random(63)
+        for case in CASES:
+            telling = random_telling(source, case[0][0], case[1], case[2])
+            if len(case[3]) == 6:
+                case = with_tellings(case, case[3][1:])
+            more = with_tellings(case, case[3] + (telling,))
+            self.assertLessEqual(how_many(more), how_many(case), more)
+            self.assertIs(could_be(case, telling), can_be(more), more)
+            self.assertIs(must_be(case, telling), how_many(more) == how_many(case), more)
+            self.assertIs(verdict(more, telling) in ("true", "none"), True, more)
+            if can_be(more):
+                self.assertIs(is_true(case, a_world(more), telling), True, more)
+
+    def test_c_true_in_all_worlds_or_in_some(self):
+        source = random.Random(64)
+        for attempt in range(60):
+            case = random_case(source)
+            telling = random_telling(source, case[0][0], case[1], case[2])
+            truths = [is_true(case, world, telling) for world in true_worlds(case)]
+            self.assertIs(must_be(case, telling), all(truths), (case, telling))
+            self.assertIs(could_be(case, telling), any(truths), (case, telling))
+
+    def test_c_needless_tellings_leave_as_many_worlds(self):
+        for case in CASES:
+            for number in range(len(case[3])):
+                less = with_tellings(case, case[3][:number] + case[3][number + 1:])
+                self.assertIs(number in needless(case), how_many(less) == how_many(case), case)
+
+    def test_d_a_clash_can_not_be_true_and_each_part_of_it_can(self):
+        for case in CASES:
+            clashes = all_clashes(case)
+            self.assertIs(clashes == [], can_be(case), case)
+            self.assertEqual(least_clash(case), clashes[0] if clashes else None, case)
+            for clash in clashes:
+                self.assertIs(is_clash(case, clash), True, case)
+                self.assertIs(self.can(case, clash), False, case)
+                for number in clash:
+                    self.assertIs(self.can(case, [other for other in clash if other != number]), True, case)
+            self.assertIs(self.can(case, most_true(case)), True, case)
+
+    def can(self, case, numbers):
+        return can_be(with_tellings(case, [case[3][number] for number in numbers]))
+
+    def test_e_persons_who_are_not_tied_have_worlds_of_their_own(self):
+        for case in CASES:
+            product = 1
+            for group in tied(case):
+                product *= how_many(alone(case, group))
+            self.assertEqual(how_many(case), product, case)
+
+    def test_e_days_of_worlds_can_be_put_together(self):
+        for case in SMALL_CASES:
+            parts = 1
+            worlds = true_worlds(case)
+            for group in tied(case):
+                own = {tuple(world[person] for person in group) for world in worlds}
+                parts *= len(own)
+                if worlds:
+                    self.assertEqual(own, set(true_worlds(alone(case, group))), case)
+            self.assertEqual(how_many(case), parts, case)
+
+
+if __name__ == "__main__":
+    unittest.main()
