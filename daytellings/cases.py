@@ -1,6 +1,6 @@
 """Towns, cases and tellings: what is one, the opposite of a telling, a case with other tellings."""
 
-from daytellings.errors import NoCase, NoTelling
+from daytellings.errors import NoCase, NoPlace, NoTelling
 
 MOST_PLACES = 5
 LONGEST_WAY = 4
@@ -97,6 +97,26 @@ def demand_telling(case, thing):
         raise NoTelling("this is no telling of the case")
 
 
+def demand_number(case, thing):
+    if not is_whole_within(thing, 0, len(case[3]) - 1):
+        raise NoTelling("the case has no telling of this number")
+
+
+def demand_person(case, thing):
+    if not is_whole_within(thing, 0, case[1] - 1):
+        raise NoPlace("the case does not have this person")
+
+
+def demand_place(case, thing):
+    if not is_whole_within(thing, 0, case[0][0] - 1):
+        raise NoPlace("the case does not have this place")
+
+
+def demand_moment(case, thing):
+    if not is_whole_within(thing, 0, case[2]):
+        raise NoPlace("the case does not have this moment")
+
+
 def opposite(telling):
     if telling[0] not in OPPOSITES:
         return None
@@ -105,3 +125,7 @@ def opposite(telling):
 
 def with_tellings(case, tellings):
     return (case[0], case[1], case[2], tuple(tellings))
+
+
+def without(case, number):
+    return with_tellings(case, case[3][:number] + case[3][number + 1:])

@@ -2,6 +2,8 @@
 
 The marks of a moment are held as a dict of dicts: for all stands, and for all that is done there, in how many ways
 this comes. What is done is held as a whole number, with a bit for each telling, since most marks share their stands.
+Where notes are taken, they stand in the place of the number of ways: a whole number, with a bit for each thing noted
+on some way to the mark.
 """
 
 from daytellings.cases import LONGEST_WAY, PERSON_WORDS
@@ -49,23 +51,33 @@ def done_by(case, moment, stands):
     return bits_of([becomes_done(telling, moment, stands) for telling in case[3]])
 
 
-def ways_with(ways, added, due):
+def add_ways(sums, ways):
+    for done, number in ways.items():
+        sums[done] = sums.get(done, 0) + number
+
+
+def join_notes(joined, notes):
+    for done, note in notes.items():
+        joined[done] = joined.get(done, 0) | note
+
+
+def ways_with(ways, added, due, joining):
     """The same ways, with more done, without those in which something is not done that is due."""
     after = {}
     for ahead, number in ways.items():
         done = ahead | added
         if done & due == due:
-            after[done] = after.get(done, 0) + number
+            joining(after, {done: number})
     return after
 
 
-def settled(case, moment, marks):
+def settled(case, moment, marks, joining):
     """Of marks that tell what was done ahead: those that come at this moment, with what is done there."""
     due = bits_of([must_be_done(telling, moment) for telling in case[3]])
     after = {}
     for stands, ways in marks.items():
         if not any([becomes_false(telling, moment, stands) for telling in case[3]]):
-            left = ways_with(ways, done_by(case, moment, stands), due)
+            left = ways_with(ways, done_by(case, moment, stands), due, joining)
             if len(left) > 0:
                 after[stands] = left
     return after
@@ -82,7 +94,7 @@ def stands_at_places(town, persons):
 
 
 def first_marks(case):
-    return settled(case, 0, dict([(stands, {0: 1}) for stands in stands_at_places(case[0], case[1])]))
+    return settled(case, 0, dict([(stands, {0: 1}) for stands in stands_at_places(case[0], case[1])]), add_ways)
 
 
 # All stands that a mark can have, also those to which no way leads: a paper may have such marks.
@@ -94,33 +106,28 @@ def all_steps(town):
     return onward
 
 
-def add_ways(sums, ways):
-    for done, number in ways.items():
-        sums[done] = sums.get(done, 0) + number
-
-
-def moved(onward, marks, person):
+def moved(onward, marks, person, joining):
     """What comes of these marks, if this person alone takes a step."""
     after = {}
     for stands, ways in marks.items():
         for stand in onward[stands[person]]:
-            add_ways(after.setdefault(stands[:person] + (stand,) + stands[person + 1:], {}), ways)
+            joining(after.setdefault(stands[:person] + (stand,) + stands[person + 1:], {}), ways)
     return after
 
 
-def marks_behind(case, moment, marks):
-    """The marks that come at this moment behind these of the moment ahead."""
+def marks_behind(case, moment, marks, joining):
+    """The marks that come at this moment behind these of the moment ahead; joining puts ways to one mark together."""
     onward = all_steps(case[0])
     # One person steps after the other, since ways that meet in between are then gone on with as one.
     for person in range(case[1]):
-        marks = moved(onward, marks, person)
-    return settled(case, moment, marks)
+        marks = moved(onward, marks, person, joining)
+    return settled(case, moment, marks, joining)
 
 
 def marks_of(case):
     found = [first_marks(case)]
     for moment in range(1, case[2] + 1):
-        found.append(marks_behind(case, moment, found[-1]))
+        found.append(marks_behind(case, moment, found[-1], add_ways))
     return found
 
 
@@ -163,3 +170,39 @@ def count_worlds(case):
     for group in groups_of(case):
         product = product * count_ways(marks_of(part_of(case, group))[-1])
     return product
+
+
+def tied_to(case, persons):
+    """All who are tied to one of these persons, and these themselves."""
+    found = []
+    for group in groups_of(case):
+        if any([person in group for person in persons]):
+            found.extend(group)
+    return found
+
+
+def with_notes(marks, moment, noting):
+    return dict([(stands, noting(moment, stands, notes)) for stands, notes in marks.items()])
+
+
+def notes_of_part(case, noting):
+    marks = with_notes(first_marks(case), 0, noting)
+    for moment in range(1, case[2] + 1):
+        marks = with_notes(marks_behind(case, moment, marks, join_notes), moment, noting)
+    found = 0
+    for notes in marks.values():
+        for note in notes.values():
+            found = found | note
+    return found
+
+
+def notes_of(case, group, noting):
+    """All that is noted in some world, by the stands of these persons, who are tied to no others.
+
+    Notes begin with the least bit alone; noting(moment, stands, notes) tells them anew at each mark that comes. Marks
+    that lead to no world are lost on the way, with their notes. Without any world 0 is told.
+    """
+    # Persons of other groups may have no world of their own, and then there is none.
+    if count_worlds(case) == 0:
+        return 0
+    return notes_of_part(part_of(case, group), noting)

@@ -1,16 +1,13 @@
 """Where each person can have been, and surely was; what another telling would be; which tellings are needless."""
 
-from daytellings.cases import demand_case, demand_telling, is_whole_within, with_tellings
-from daytellings.errors import NoPlace
+from daytellings.cases import demand_case, demand_moment, demand_person, demand_telling, with_tellings, without
 from daytellings.marks import count_worlds
 
 
 def demand_person_and_moment(case, who, moment):
     demand_case(case)
-    if not is_whole_within(who, 0, case[1] - 1):
-        raise NoPlace("the case does not have this person")
-    if not is_whole_within(moment, 0, case[2]):
-        raise NoPlace("the case does not have this moment")
+    demand_person(case, who)
+    demand_moment(case, moment)
 
 
 def count_with(case, telling):
@@ -61,10 +58,6 @@ def verdict(case, telling):
     if some == every:
         return "true"
     return "open" if some > 0 else "false"
-
-
-def without(case, number):
-    return with_tellings(case, case[3][:number] + case[3][number + 1:])
 
 
 def needless(case):

@@ -1,7 +1,7 @@
 """A world in which all tellings are true, how many there are, and papers that there is none."""
 
 from daytellings.cases import LONGEST_WAY, demand_case, is_tuple_of, is_whole_within
-from daytellings.marks import all_steps, bits_of, count_worlds, done_by, first_marks, groups_of
+from daytellings.marks import add_ways, all_steps, bits_of, count_worlds, done_by, first_marks, groups_of
 from daytellings.marks import marks_behind, marks_of, part_of, truths_of
 
 
@@ -132,5 +132,5 @@ def is_paper(case, thing):
         marks = gathered(part)
         if not has_all(marks, wanted):
             return False
-        wanted = marks_behind(case, moment + 1, marks)
+        wanted = marks_behind(case, moment + 1, marks, add_ways)
     return True

@@ -172,6 +172,20 @@ class Form(unittest.TestCase):
             for part in node.body:
                 self.assertIsInstance(part, (ast.FunctionDef, ast.Pass), spot)
 
+    def test_own_methods_and_values(self):
+        methods = [node.name for spot, found in self.nodes(ast.ClassDef) for node in found.body
+                   if isinstance(node, ast.FunctionDef) and node.name not in ALLOWED_DUNDERS]
+        values = [node.attr for spot, node in self.nodes(ast.Attribute) if isinstance(node.ctx, ast.Store)]
+        self.assertEqual(set(methods) & set(values), set())
+        kinds = (str, int, list, tuple, dict, set, frozenset, bytes, bytearray)
+        pythons = {name for kind in kinds for name in dir(kind)}
+        self.assertEqual((set(methods) | set(values)) & pythons, set())
+        self.assertEqual((set(methods) | set(values)) & set(BANNED_NAMES), set())
+        for spot, found in self.nodes(ast.ClassDef):
+            names = [node.name for node in found.body if isinstance(node, ast.FunctionDef)]
+            self.assertEqual(len(names), len(set(names)), spot)
+            self.assertIn(found, [node for tree in self.trees.values() for node in tree.body], spot)
+
     def test_names(self):
         for name, tree in self.trees.items():
             for bound in bound_names(tree):

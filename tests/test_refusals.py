@@ -3,9 +3,12 @@
 import unittest
 
 from daytellings.clashes import all_clashes, alone, is_clash, least_clash, most_true, tied
+from daytellings.desks import Desk
 from daytellings.errors import NoCase
 from daytellings.holding import all_true, is_true, true_ones
+from daytellings.meeting import can_meet, earliest, latest, must_meet, stays
 from daytellings.surely import could_be, must_be, needless, on_the_way, surely_at, verdict, where
+from daytellings.texts import case_text
 from daytellings.worlds import a_world, can_be, how_many, is_paper, paper
 from things import CASE, NEVER_RIGHT, TELLINGS, TOWN, refusing, spoilt, with_other_lengths
 
@@ -35,6 +38,13 @@ CALLS = (
     (all_clashes, ()),
     (tied, ()),
     (alone, ([0, 1],)),
+    (Desk, ()),
+    (case_text, ()),
+    (can_meet, (0, 1)),
+    (must_meet, (0, 1)),
+    (earliest, (0, 0)),
+    (latest, (0, 0)),
+    (stays, (0, 0)),
 )
 
 NO_CASES = list(NEVER_RIGHT) + spoilt(CASE) + with_other_lengths(CASE[:3]) + [

@@ -1,4 +1,4 @@
-"""[0.2] (a) to (e): what holds over all cases."""
+"""[0.2] (a) to (g): what holds over all cases."""
 
 import random
 import unittest
@@ -6,8 +6,12 @@ import unittest
 from daytellings.cases import with_tellings
 from daytellings.clashes import all_clashes, alone, is_clash, least_clash, most_true, tied
 from daytellings.days import is_world
+from daytellings.desks import Desk
+from daytellings.errors import NoText
 from daytellings.holding import all_true, is_true
+from daytellings.meeting import can_meet, earliest, latest, must_meet, stays
 from daytellings.surely import could_be, must_be, needless, on_the_way, surely_at, verdict, where
+from daytellings.texts import case_text, read_case
 from daytellings.worlds import a_world, can_be, how_many, is_paper, paper
 from things import EDGE_CASES, random_case, random_cases, random_telling, true_worlds
 
@@ -89,6 +93,19 @@ class Whole(unittest.TestCase):
                 less = with_tellings(case, case[3][:number] + case[3][number + 1:])
                 self.assertIs(number in needless(case), how_many(less) == how_many(case), case)
 
+    def test_c_desks_take_tellings_and_have_no_more_worlds(self):
+        source = random.Random(65)
+        for case in CASES:
+            desk = Desk(with_tellings(case, case[3][:3]))
+            while len(desk.case()[3]) < 6:
+                ahead = desk.case()
+                told = desk.take(random_telling(source, case[0][0], case[1], case[2]))
+                fewer = how_many(desk.case())
+                self.assertLessEqual(fewer, how_many(ahead), desk.case())
+                self.assertEqual(told == "true", 0 < fewer == how_many(ahead), desk.case())
+                self.assertEqual(told == "open", 0 < fewer < how_many(ahead), desk.case())
+                self.assertEqual(told == "false", fewer == 0 < how_many(ahead), desk.case())
+
     def test_d_a_clash_can_not_be_true_and_each_part_of_it_can(self):
         for case in CASES:
             clashes = all_clashes(case)
@@ -121,6 +138,48 @@ class Whole(unittest.TestCase):
                 if worlds:
                     self.assertEqual(own, set(true_worlds(alone(case, group))), case)
             self.assertEqual(how_many(case), parts, case)
+
+    def test_f_texts_read_back_as_what_they_write_and_as_nothing_else(self):
+        texts = {}
+        for case in CASES:
+            text = case_text(case)
+            self.assertEqual(read_case(text), case)
+            self.assertEqual(texts.setdefault(text, case), case)
+            for place in range(len(text)):
+                other = text[:place] + "1" + text[place + 1:]
+                self.assert_reads_as_what_it_writes(other)
+
+    def assert_reads_as_what_it_writes(self, text):
+        try:
+            case = read_case(text)
+        except NoText:
+            return
+        self.assertEqual(case_text(case), text)
+
+    def test_g_two_meet_as_told_in_some_world_and_at_no_other_moment_and_place(self):
+        for case in SMALL_CASES:
+            if case[1] == 1:
+                continue
+            told = set(can_meet(case, 0, 1))
+            seen = [{(moment, one[0]) for moment, (one, other) in enumerate(zip(world[0], world[1]))
+                     if one == other and one[1] == 0} for world in true_worlds(case)]
+            self.assertEqual(told, set().union(*seen), case)
+            self.assertIs(must_meet(case, 0, 1), all(seen), case)
+
+    def test_g_meetings_agree_with_where_persons_can_be(self):
+        for case in CASES[::3] + list(GREAT_CASES):
+            for moment, place in can_meet(case, 0, 1) if case[1] > 1 else []:
+                self.assertIn(place, where(case, 0, moment), case)
+                self.assertIn(place, where(case, 1, moment), case)
+            moments = [moment for moment in range(case[2] + 1) if 0 in where(case, 0, moment)]
+            self.assertEqual(earliest(case, 0, 0), moments[0] if moments else None, case)
+            self.assertEqual(latest(case, 0, 0), moments[-1] if moments else None, case)
+
+    def test_g_one_stays_as_often_as_told_never_less_nor_more(self):
+        for case in SMALL_CASES:
+            for place in range(case[0][0]):
+                counts = [world[0].count((place, 0)) for world in true_worlds(case)]
+                self.assertEqual(stays(case, 0, place), (min(counts), max(counts)) if counts else None, case)
 
 
 if __name__ == "__main__":
