@@ -61,12 +61,14 @@ def all_clashes(case):
     return clashes
 
 
+def first_of_longest(lists):
+    most = max([len(numbers) for numbers in lists])
+    return [numbers for numbers in lists if len(numbers) == most][0]
+
+
 def most_true(case):
     clashes = all_clashes(case)
-    fitting = [numbers for numbers in rising_lists(len(case[3])) if not holds_any(numbers, clashes)]
-    # Rising lists come short ones first, so the last one is one of the longest.
-    most = len(fitting[-1])
-    return [numbers for numbers in fitting if len(numbers) == most][0]
+    return first_of_longest([numbers for numbers in rising_lists(len(case[3])) if not holds_any(numbers, clashes)])
 
 
 def least_clash(case):
@@ -74,15 +76,16 @@ def least_clash(case):
     return clashes[0] if len(clashes) > 0 else None
 
 
-def is_rising_list_of_numbers(case, thing):
-    if not isinstance(thing, list) or not all([is_whole_within(part, 0, len(case[3]) - 1) for part in thing]):
+def is_rising_list(thing, count):
+    """Whether any thing is a rising list of numbers below this one."""
+    if not isinstance(thing, list) or not all([is_whole_within(part, 0, count - 1) for part in thing]):
         return False
     return thing == sorted(set(thing))
 
 
 def is_clash(case, thing):
     demand_case(case)
-    if not is_rising_list_of_numbers(case, thing) or can_together(case, thing):
+    if not is_rising_list(thing, len(case[3])) or can_together(case, thing):
         return False
     return all([can_together(case, thing[:index] + thing[index + 1:]) for index in range(len(thing))])
 

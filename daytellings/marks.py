@@ -33,14 +33,17 @@ def speaks_of(telling, moment):
     return telling[3] <= moment <= telling[4]
 
 
+def decides(telling, moment, stands):
+    """Whether this moment decides a telling: by it one of seen and met is true, one of the other words false."""
+    return speaks_of(telling, moment) and is_so(telling, stands) != (telling[0] == "there")
+
+
 def becomes_done(telling, moment, stands):
-    return telling[0] in ONCE_WORDS and speaks_of(telling, moment) and is_so(telling, stands)
+    return telling[0] in ONCE_WORDS and decides(telling, moment, stands)
 
 
 def becomes_false(telling, moment, stands):
-    if telling[0] in ONCE_WORDS or not speaks_of(telling, moment):
-        return False
-    return is_so(telling, stands) != (telling[0] == "there")
+    return telling[0] not in ONCE_WORDS and decides(telling, moment, stands)
 
 
 def must_be_done(telling, moment):

@@ -1,14 +1,20 @@
-"""[3.1], its last sentence, and [0.3]: what is no case is refused, ahead of all else; the interface."""
+"""[3.1], its last sentence, and [0.3]: what is no case is refused, ahead of all else."""
 
 import unittest
 
+from daytellings.asking import answers, best_question, parts, tells_all
+from daytellings.cases import is_telling
 from daytellings.clashes import all_clashes, alone, is_clash, least_clash, most_true, tied
+from daytellings.days import is_day, is_world
+from daytellings.daytexts import day_text, read_day, read_world, world_text
 from daytellings.desks import Desk
 from daytellings.errors import NoCase
 from daytellings.holding import all_true, is_true, true_ones
 from daytellings.meeting import can_meet, earliest, latest, must_meet, stays
 from daytellings.surely import could_be, must_be, needless, on_the_way, surely_at, verdict, where
+from daytellings.talks import Talk
 from daytellings.texts import case_text
+from daytellings.trusting import can_be_truthful, most_truthful, never_truthful, truthful
 from daytellings.worlds import a_world, can_be, how_many, is_paper, paper
 from things import CASE, NEVER_RIGHT, TELLINGS, TOWN, refusing, spoilt, with_other_lengths
 
@@ -17,6 +23,9 @@ WORLD = (STAYING, STAYING)
 
 # Each function, with what may stand behind the case.
 CALLS = (
+    (is_telling, (TELLINGS[0],)),
+    (is_day, (STAYING,)),
+    (is_world, (WORLD,)),
     (is_true, (WORLD, TELLINGS[0])),
     (true_ones, (WORLD,)),
     (all_true, (WORLD,)),
@@ -45,6 +54,19 @@ CALLS = (
     (earliest, (0, 0)),
     (latest, (0, 0)),
     (stays, (0, 0)),
+    (parts, (TELLINGS[0],)),
+    (answers, (TELLINGS,)),
+    (tells_all, (TELLINGS,)),
+    (best_question, (TELLINGS,)),
+    (truthful, (WORLD,)),
+    (can_be_truthful, ([0, 1],)),
+    (most_truthful, ()),
+    (never_truthful, ()),
+    (day_text, (STAYING,)),
+    (read_day, ("ccccccc",)),
+    (world_text, (WORLD,)),
+    (read_world, ("X ccccccc\nY ccccccc\n",)),
+    (Talk, ()),
 )
 
 NO_CASES = list(NEVER_RIGHT) + spoilt(CASE) + with_other_lengths(CASE[:3]) + [

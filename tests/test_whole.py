@@ -1,19 +1,23 @@
-"""[0.2] (a) to (g): what holds over all cases."""
+"""[0.2] (a) to (k): what holds over all cases."""
 
 import random
 import unittest
 
+from daytellings.asking import answers, best_question, parts, tells_all
 from daytellings.cases import with_tellings
 from daytellings.clashes import all_clashes, alone, is_clash, least_clash, most_true, tied
 from daytellings.days import is_world
+from daytellings.daytexts import day_text, read_day, read_world, world_text
 from daytellings.desks import Desk
 from daytellings.errors import NoText
 from daytellings.holding import all_true, is_true
 from daytellings.meeting import can_meet, earliest, latest, must_meet, stays
 from daytellings.surely import could_be, must_be, needless, on_the_way, surely_at, verdict, where
+from daytellings.talks import Talk
 from daytellings.texts import case_text, read_case
+from daytellings.trusting import can_be_truthful, most_truthful, never_truthful, truthful
 from daytellings.worlds import a_world, can_be, how_many, is_paper, paper
-from things import EDGE_CASES, random_case, random_cases, random_telling, true_worlds
+from things import EDGE_CASES, days_by_choosing, random_case, random_cases, random_telling, told_true, true_worlds
 
 FULL_WAYS = tuple((one, other, 1 + (one * other) % 4) for one in range(5) for other in range(one + 1, 5))
 
@@ -180,6 +184,84 @@ class Whole(unittest.TestCase):
             for place in range(case[0][0]):
                 counts = [world[0].count((place, 0)) for world in true_worlds(case)]
                 self.assertEqual(stays(case, 0, place), (min(counts), max(counts)) if counts else None, case)
+
+    def some_of(self, source, case, number):
+        return [random_telling(source, case[0][0], case[1], case[2]) for count in range(number)]
+
+    def test_h_each_answer_told_is_given_in_some_world(self):
+        source = random.Random(66)
+        for case in SMALL_CASES:
+            some = self.some_of(source, case, source.randint(0, 6))
+            given = [tuple(told_true(world, telling) for telling in some) for world in true_worlds(case)]
+            self.assertEqual(answers(case, some), sorted(set(given)), (case, some))
+            self.assertIs(tells_all(case, some), len(set(given)) == len(given), (case, some))
+
+    def test_h_parts_come_to_all_worlds(self):
+        source = random.Random(67)
+        for case in CASES:
+            some = self.some_of(source, case, 3)
+            found = [parts(case, telling) for telling in some]
+            for telling, part in zip(some, found):
+                self.assertEqual(sum(part), how_many(case), (case, telling))
+                self.assertEqual(part[0] > 0, could_be(case, telling), (case, telling))
+                self.assertEqual(part[1] == 0, must_be(case, telling), (case, telling))
+                expected = [(truth,) for truth in (False, True) if part[1 - truth] > 0]
+                self.assertEqual(answers(case, [telling]), expected, (case, telling))
+            lesser = [min(part) for part in found]
+            self.assertEqual(best_question(case, some), lesser.index(max(lesser)), (case, some))
+
+    def test_i_the_tellings_of_persons_told_can_all_be_true_and_no_more_persons_can_be_trusted(self):
+        for case in CASES:
+            most = most_truthful(case)
+            self.assertIs(can_be_truthful(case, most), True, case)
+            self.assertIs(can_be(with_tellings(case, [told for told in case[3] if told[1] in most])), True, case)
+            for person in set(range(case[1])) - set(most):
+                self.assertIs(can_be_truthful(case, sorted(most + [person])), False, case)
+            for person in range(case[1]):
+                self.assertIs(person in never_truthful(case), not can_be_truthful(case, [person]), case)
+            world = a_world(with_tellings(case, [told for told in case[3] if told[1] in most]))
+            self.assertLessEqual(set(most), set(truthful(case, world)), case)
+            self.assertEqual(len(truthful(case, world)), len(most), case)
+
+    def test_j_days_and_worlds_have_one_text_each_which_reads_back(self):
+        for case in SMALL_CASES:
+            days = sorted(days_by_choosing(case[0], case[2]))
+            texts = [day_text(case, day) for day in days]
+            self.assertEqual(len(set(texts)), len(days), case)
+            self.assertEqual([read_day(case, text) for text in texts], days, case)
+        for case in CASES:
+            world = a_world(with_tellings(case, []))
+            self.assertEqual(read_world(case, world_text(case, world)), world, case)
+            days = "".join(f"{sign} {day_text(case, day)}\n" for sign, day in zip("XYZ", world))
+            self.assertEqual(world_text(case, world), days, case)
+
+    def test_k_what_a_talk_keeps_can_all_be_true_and_what_is_aside_could_not_be_kept_as_well(self):
+        source = random.Random(68)
+        for case in CASES:
+            talk = Talk(with_tellings(case, []))
+            states = [(talk.case(), talk.aside())]
+            for telling in list(case[3]) + self.some_of(source, case, 3):
+                talk.hear(telling)
+                states.append((talk.case(), talk.aside()))
+                if len(talk.case()[3]) > 4:
+                    talk.let_go(source.randrange(len(talk.case()[3])))
+                    states.append((talk.case(), talk.aside()))
+            for kept, aside in states:
+                self.assertIs(can_be(kept), True, kept)
+                for telling in aside:
+                    self.assertTrue(len(kept[3]) == 6 or not could_be(kept, telling), (kept, telling))
+            self.assert_goes_back_and_forth(talk, states)
+
+    def assert_goes_back_and_forth(self, talk, states):
+        twin = talk.twin()
+        for state in states[-2::-1]:
+            talk.back()
+            self.assertEqual((talk.case(), talk.aside()), state)
+        self.assertEqual(talk.counts(), (0, len(states) - 1))
+        for state in states[1:]:
+            talk.forth()
+            self.assertEqual((talk.case(), talk.aside()), state)
+        self.assertEqual((twin.case(), twin.aside(), twin.counts()), states[-1] + ((len(states) - 1, 0),))
 
 
 if __name__ == "__main__":
